@@ -8,6 +8,7 @@ import (
 	"testing"
 
 	"calender/api"
+	"calender/bre"
 	"calender/ere"
 	"calender/rx"
 	"calender/set"
@@ -330,6 +331,19 @@ func TestP6_4ManyWays(t *testing.T) {
 	if c, ok := Longest(l, few, 0); ok || c != caps() {
 		t.Error(c, ok)
 	}
+	l, _, _ = bre.Parse(strings.Repeat(`\(.*\)`, 9) + `\9\8\7\6\5\4\3\2\1b`)
+	for i := range len(few) + 1 {
+		if c, ok := Longest(l, few, i); ok || c != caps() {
+			t.Error(c, ok)
+		}
+	}
+	for i := range len(few) + 1 {
+		c, ok := Longest(l, "ab"+few[2:], i)
+		if ok != (i == 1) || ok && c != caps(append([]int{1, 2}, slices.Repeat([]int{1, 1}, 9)...)...) {
+			t.Error(i, c, ok)
+		}
+	}
+	l = pattern(t, `&(*0,-1;[61])&(*0,-1;[61])&(*0,-1;[61])&\1&\2&\3[62]`)
 	if c, ok := Longest(l, few+"b", 0); !ok || c != caps(0, 41, 0, 20, 20, 20, 20, 20) {
 		t.Error(c, ok)
 	}

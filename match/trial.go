@@ -1,6 +1,7 @@
 package match
 
 import (
+	"slices"
 	"strings"
 
 	"calender/rx"
@@ -19,14 +20,42 @@ type trial struct {
 	numbers map[[10][2]int]int
 	reached map[state]places
 	left    map[state]Caps
+	// loose tries the same, but its Refs fit all bytes: where it reaches nothing, nothing is reached. There is none, if there are no Refs.
+	loose *trial
 }
 
+// anything is the kind of a leaf that fits from each place to each one behind it.
+const anything = -1
+
 func newTrial(l []rx.Node, t string) *trial {
-	return &trial{l, t, rolesOf(l), map[[10][2]int]int{}, map[state]places{}, map[state]Caps{}}
+	x := trialOf(l, t)
+	if rx.Refs(l) {
+		x.loose = trialOf(loosened(l), t)
+	}
+	return x
+}
+
+func trialOf(l []rx.Node, t string) *trial {
+	return &trial{l, t, rolesOf(l), map[[10][2]int]int{}, map[state]places{}, map[state]Caps{}, nil}
+}
+
+// loosened is l with anything in the place of each Ref.
+func loosened(l []rx.Node) []rx.Node {
+	all := slices.Clone(l)
+	for i, v := range all {
+		if v.Kind == rx.Ref {
+			all[i] = rx.Node{Kind: anything}
+		}
+	}
+	return all
 }
 
 // all are the places that the whole reaches from i.
-func (x *trial) all(i int) places { return x.ends(len(x.l)-1, i, 0, None()) }
+func (x *trial) all(i int) places {
+	found := newPlaces(len(x.t))
+	x.goOn(found, len(x.l)-1, i, 0, func(int) Caps { return None() })
+	return found
+}
 
 // whole tells what the whole leaves from i to j, and true; None and false, if it does not fit.
 func (x *trial) whole(i, j int) (Caps, bool) {
@@ -82,6 +111,13 @@ func (x *trial) add(found places, n, p, c int, had Caps) {
 	found.join(x.ends(n, p, c, had))
 }
 
+// goOn adds ends of node n from k on, with what was left there; that is asked for only if there may be a way on at all.
+func (x *trial) goOn(found places, n, k, c int, left func(k int) Caps) {
+	if x.loose == nil || x.loose.ends(n, k, c, None()).from(k) >= 0 {
+		x.add(found, n, k, c, left(k))
+	}
+}
+
 // isRun tells whether node n is a leaf, or times of a set of bytes.
 func (x *trial) isRun(n int) bool {
 	switch v := x.l[n]; v.Kind {
@@ -105,13 +141,17 @@ func (x *trial) reach(found places, n, p, c int, had Caps) {
 		left := x.leaver(v.A, v.B, p, had)
 		parts := x.ends(v.A, p, 0, had)
 		for k := parts.from(p); k >= 0; k = parts.from(k + 1) {
-			x.add(found, v.B, k, 0, left(k))
+			x.goOn(found, v.B, k, 0, left)
 		}
 	case rx.Times:
 		if x.isRun(n) {
 			x.run(found, v, p)
 		} else {
 			x.again(found, n, p, c, had)
+		}
+	case anything:
+		for k := p; k <= len(x.t); k++ {
+			found.put(k)
 		}
 	default:
 		if width, fits := x.leaf(v, p, had); fits {
@@ -132,7 +172,7 @@ func (x *trial) again(found places, n, p, c int, had Caps) {
 	}
 	left := x.leaver(v.A, n, p, had)
 	for k := parts.from(p + 1); k >= 0; k = parts.from(k + 1) {
-		x.add(found, n, k, oneMore(v, c), left(k))
+		x.goOn(found, n, k, oneMore(v, c), left)
 	}
 }
 
@@ -178,7 +218,7 @@ func oneMore(v rx.Node, c int) int {
 
 // leaver tells what groups have for node m, behind node a, which fits from p to a place.
 func (x *trial) leaver(a, m, p int, had Caps) func(k int) Caps {
-	// What a leaves is dear: it is found only if m asks for it.
+	// Walking through a is dear: it is done only if m asks for what a leaves.
 	if x.roles[a].ever&x.roles[m].asked == 0 {
 		return func(int) Caps { return had }
 	}
